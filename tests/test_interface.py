@@ -1,0 +1,72 @@
+"""Promise [17]: names, arguments and files of the interface; and the size of the package's files."""
+
+import ast
+import importlib
+import inspect
+import pathlib
+import unittest
+
+LIBRARY = ("collections", "heapq", "itertools", "math")
+PACKAGE = pathlib.Path(__file__).resolve().parent.parent / "anyhands"
+
+FUNCTIONS = {
+    "lots": {
+        "is_lot": ["thing"], "made_lot": ["hours", "errands"], "hours_of": ["lot"], "all_work": ["lot"],
+        "work_in": ["lot", "first", "last"], "behind": ["lot"], "joined": ["lot", "hour"], "put_in": ["lot", "hour"],
+        "added": ["one", "other"], "times_over": ["lot", "many"],
+    },
+    "tables": {
+        "is_stretch": ["hours", "thing"], "all_stretches": ["hours"], "lies_within": ["one", "other"],
+        "asked": ["lot", "first", "last"], "table_of": ["lot"], "singles": ["hours", "table"],
+        "lot_of": ["hours", "table"], "is_table": ["hours", "thing"],
+    },
+}
+
+
+class Interface(unittest.TestCase):
+
+    def test_each_function_is_defined_in_its_file(self):
+        for file, functions in FUNCTIONS.items():
+            module = importlib.import_module(f"anyhands.{file}")
+            rows = ast.parse((PACKAGE / f"{file}.py").read_text()).body
+            defined = [row.name for row in rows if isinstance(row, ast.FunctionDef)]
+            for name, arguments in functions.items():
+                with self.subTest(file=file, name=name):
+                    self.assertIn(name, defined)
+                    function = getattr(module, name)
+                    self.assertEqual(function.__module__, f"anyhands.{file}")
+                    self.assertEqual(list(inspect.signature(function).parameters), arguments)
+
+
+class Files(unittest.TestCase):
+
+    def files(self):
+        return [path for path in sorted(PACKAGE.rglob("*")) if "__pycache__" not in path.parts]
+
+    def test_the_folder_holds_files_of_python_alone(self):
+        self.assertIn(PACKAGE / "__init__.py", self.files())
+        for path in self.files():
+            self.assertEqual(path.suffix, ".py", path)
+
+    def test_sizes_and_characters(self):
+        for path in self.files():
+            text = path.read_text(encoding="utf-8")
+            with self.subTest(path.name):
+                self.assertTrue(all(sign == "\n" or " " <= sign <= "~" for sign in text))
+                self.assertLess(len(text.splitlines()), 400)
+                self.assertLessEqual(max(len(row) for row in text.splitlines()), 120)
+                for row in ast.walk(ast.parse(text)):
+                    if isinstance(row, ast.FunctionDef):
+                        self.assertLessEqual(row.end_lineno - row.lineno + 1, 40, row.name)
+
+    def test_imports_are_of_the_package_and_the_library(self):
+        for path in self.files():
+            for row in ast.walk(ast.parse(path.read_text(encoding="utf-8"))):
+                self.assertNotIsInstance(row, ast.Import, path)
+                if isinstance(row, ast.ImportFrom):
+                    self.assertTrue(row.module.startswith("anyhands.") or row.module in LIBRARY, path)
+                    self.assertEqual(row.level, 0, path)
+
+
+if __name__ == "__main__":
+    unittest.main()
