@@ -1,6 +1,6 @@
-"""Stretches of so many hours, for the files that cannot import one another."""
+"""What the files need of their arguments, and the errors that are raised if it is not so."""
 
-from anyhands.errors import NoStretch
+from anyhands.errors import NoHour, NoStretch, Unfit, Unlike
 
 
 def has_stretch(hours, first, last):
@@ -12,3 +12,21 @@ def need_stretch(hours, first, last):
     """Raise NoStretch if first to last is no stretch of so many hours."""
     if not has_stretch(hours, first, last):
         raise NoStretch(first, last)
+
+
+def need_hour(hours, hour):
+    """Raise NoHour if there is no such hour."""
+    if not 0 <= hour < hours:
+        raise NoHour(hour)
+
+
+def need_fit(lot, numbers):
+    """Raise Unfit if there are not as many numbers as the LOT has hours."""
+    if len(numbers) != lot[0]:
+        raise Unfit()
+
+
+def need_alike(one, other):
+    """Raise Unlike if the LOTs have not as many hours."""
+    if one[0] != other[0]:
+        raise Unlike()

@@ -1,6 +1,7 @@
 """What several test files need: examples of the document, calls in all forms, things nearly right."""
 
 import copy
+import functools
 import itertools
 
 from anyhands import errors
@@ -88,6 +89,8 @@ def nested(value, depth):
     return value
 
 
+WRONG_HOURS = (-1, -2, BIG, -BIG)
+
 JUNK = (None, True, False, "", "0", "lot", [], (), [0, 1], (0,), (0, 1, 2), (0, None), ("0", "1"), (True, True),
         [1, ()], ((0, 1), 1), nested(1, 12), nested([], 11), errors.Unlike(), errors.NoStretch(0, 1),
         (errors.NoHour(0), 1))
@@ -134,3 +137,116 @@ def small_lots(hours, most):
     windows = [(first, last) for first in range(hours) for last in range(first, hours)]
     for works in itertools.product(range(most + 1), repeat=len(windows)):
         yield (hours, tuple((window, work) for window, work in zip(windows, works) if work))
+
+
+def check_thing(case, function, values, thing, expected):
+    """Each form of the other arguments gives this answer, True or False itself, about the thing."""
+    for given in in_all_forms(values):
+        with case.subTest(function=function.__name__, given=given, thing=thing):
+            before = copy.deepcopy(given)
+            case.assertIs(function(*given.values(), thing), expected)
+            case.assertIs(function(**given, thing=thing), expected)
+            case.assertEqual(repr(given), repr(before))
+
+
+def check_same(case, function, values):
+    """Each form of the call returns what the call with tuples does; returns that."""
+    expected = function(**values)
+    check_value(case, function, values, expected)
+    return expected
+
+
+def check_new(case, function, values):
+    """Each call returns a list of its own, which may be changed."""
+    kept = function(**values)
+    case.assertIsInstance(kept, list)
+    before = list(kept)
+    kept.append(None)
+    again = function(**values)
+    case.assertEqual(again, before)
+    again.clear()
+    case.assertEqual(function(**values), before)
+
+
+def written_as(shape, thing):
+    """Whether thing is made of numbers and tuples alone, in this shape.
+
+    In a shape 0 stands for a number, a list of one shape for a tuple of any number of such parts, and a tuple of shapes
+    for a tuple of just such parts.
+    """
+    if shape == 0:
+        return repr(thing).lstrip("-").isdigit()
+    if not isinstance(thing, tuple):
+        return False
+    if isinstance(shape, list):
+        return all(written_as(shape[0], part) for part in thing)
+    return len(thing) == len(shape) and all(written_as(own, part) for own, part in zip(shape, thing))
+
+
+def stretches(hours):
+    return [(first, last) for first in range(hours) for last in range(first, hours)]
+
+
+def hours_in(stretch):
+    return set(range(stretch[0], stretch[1] + 1))
+
+
+def asked_by_hours(lot, hours):
+    """The work of the errands whose windows have no hours but these."""
+    return sum(work for window, work in lot[1] if hours_in(window) <= set(hours))
+
+
+def plain_table(lot):
+    return [asked_by_hours(lot, hours_in(stretch)) for stretch in stretches(lot[0])]
+
+
+def plain_never_more(one, other):
+    return all(low <= high for low, high in zip(plain_table(one), plain_table(other)))
+
+
+def pieces_of(lot):
+    """The windows of all pieces of work, ascending."""
+    return tuple(window for window, work in lot[1] for _ in range(work))
+
+
+def lot_of_pieces(hours, pieces):
+    """The LOT with a piece of work with each of these windows."""
+    return hours, tuple((window, pieces.count(window)) for window in sorted(set(pieces)))
+
+
+def lots_of_work(hours, most):
+    """All LOTs of so many hours with at most so much work in all."""
+    for work in range(most + 1):
+        for pieces in itertools.combinations_with_replacement(stretches(hours), work):
+            yield lot_of_pieces(hours, pieces)
+
+
+def some_lot(chance, hours, pieces, most=1):
+    """A LOT of this many pieces, each up to most times, by a seeded chance."""
+    works = {}
+    for _ in range(pieces):
+        window = chance.choice(stretches(hours))
+        works[window] = works.get(window, 0) + chance.randint(1, most)
+    return hours, tuple(sorted(works.items()))
+
+
+def grid(hours, most):
+    """All tuples of so many numbers from 0 to most."""
+    return list(itertools.product(range(most + 1), repeat=hours))
+
+
+def with_one(numbers, at, change):
+    return numbers[:at] + (numbers[at] + change,) + numbers[at + 1:]
+
+
+@functools.cache
+def least_left(pieces, calendar):
+    """How many of the pieces are left at the least, by trying each hour for each one."""
+    if not pieces:
+        return 0
+    (first, last), rest = pieces[0], pieces[1:]
+    least = least_left(rest, calendar) + 1
+    for hour in range(first, last + 1):
+        if calendar[hour]:
+            least = min(least, least_left(rest, with_one(calendar, hour, -1)))
+    return least

@@ -20,6 +20,31 @@ FUNCTIONS = {
         "asked": ["lot", "first", "last"], "table_of": ["lot"], "singles": ["hours", "table"],
         "lot_of": ["hours", "table"], "is_table": ["hours", "thing"],
     },
+    "calendars": {
+        "is_calendar": ["hours", "thing"], "hands_in": ["calendar", "first", "last"],
+        "short_stretches": ["lot", "calendar"], "full_stretches": ["lot", "calendar"], "is_done": ["lot", "calendar"],
+        "undone": ["lot", "calendar"], "lacking": ["lot", "calendar"], "is_lacking": ["lot", "calendar", "thing"],
+        "doing": ["lot", "calendar"], "done_by": ["rows"], "left_by": ["lot", "rows"],
+        "is_doing": ["lot", "calendar", "thing"], "helpful": ["lot", "calendar"],
+    },
+    "order": {
+        "never_more": ["one", "other"], "compare": ["one", "other"], "over": ["one", "other"],
+        "heavy_calendar": ["one", "other"], "is_heavy_calendar": ["one", "other", "thing"],
+        "heavy_prices": ["one", "other"], "is_heavy_prices": ["one", "other", "thing"],
+        "always_lightest": ["lots"], "always_heaviest": ["lots"], "unbeaten": ["lots"],
+    },
+    "prices": {
+        "is_prices": ["hours", "thing"], "expense": ["calendar", "prices"], "cheapest": ["lot", "prices"],
+        "cheapest_hands": ["lot", "prices"], "is_cheapest": ["lot", "prices", "thing"], "asked_of": ["lot", "some"],
+        "levels": ["lot", "prices"], "excess": ["one", "other", "most=1"], "excess_hours": ["one", "other"],
+        "never_dearer_in": ["one", "other", "order"], "how_many_orders": ["one", "other"],
+        "rise": ["lot", "prices", "hour"], "fall": ["lot", "prices", "hour"],
+    },
+    "moves": {
+        "is_move": ["hours", "thing"], "moved": ["lot", "move", "many=1"], "open_moves": ["lot"],
+        "one_move": ["lot", "goal"], "path_between": ["lot", "goal"], "is_path": ["lot", "goal", "thing"],
+        "just_lighter": ["lot"], "just_heavier": ["lot"], "is_just_lighter": ["one", "other"],
+    },
 }
 
 
@@ -35,7 +60,9 @@ class Interface(unittest.TestCase):
                     self.assertIn(name, defined)
                     function = getattr(module, name)
                     self.assertEqual(function.__module__, f"anyhands.{file}")
-                    self.assertEqual(list(inspect.signature(function).parameters), arguments)
+                    told = inspect.signature(function).parameters.values()
+                    self.assertEqual([str(argument) for argument in told], arguments)
+                    self.assertEqual({argument.kind for argument in told}, {inspect.Parameter.POSITIONAL_OR_KEYWORD})
 
 
 class Files(unittest.TestCase):
