@@ -1,6 +1,7 @@
 """What the files need of their arguments, and the errors that are raised if it is not so."""
 
 from anyhands.errors import NoHour, NoStretch, Unfit, Unlike
+from anyhands.plain import is_number
 
 
 def has_stretch(hours, first, last):
@@ -30,3 +31,16 @@ def need_alike(one, other):
     """Raise Unlike if the LOTs have not as many hours."""
     if one[0] != other[0]:
         raise Unlike()
+
+
+def _is_order(hours, values):
+    """Whether the values are each of so many hours just once."""
+    if not isinstance(values, (list, tuple)) or not all([is_number(part) for part in values]):
+        return False
+    return sorted(values) == list(range(hours))
+
+
+def need_order(hours, values):
+    """Raise Unfit if the values are not each of so many hours just once."""
+    if not _is_order(hours, values):
+        raise Unfit()

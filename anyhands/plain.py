@@ -28,3 +28,8 @@ def with_tuples(value):
 def changed_at(numbers, place, change):
     """The tuple of the numbers, the one at this place so much greater."""
     return tuple([number + change if at == place else number for at, number in enumerate(numbers)])
+
+
+def rounded_up(number, share):
+    """How many shares the number has, the last one perhaps not whole."""
+    return -(-number // share)

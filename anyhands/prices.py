@@ -1,10 +1,10 @@
 """Prices: what a hand of each hour costs, and what the cheapest hands for a LOT cost together."""
 
 from anyhands.calendars import is_calendar, is_done
-from anyhands.checks import need_alike, need_fit, need_hour
+from anyhands.checks import need_alike, need_fit, need_hour, need_order
 from anyhands.errors import Unfit
 from anyhands.lots import hours_of
-from anyhands.plain import changed_at, is_number, is_number_row
+from anyhands.plain import changed_at, is_number_row
 
 
 def is_prices(hours, thing):
@@ -98,18 +98,10 @@ def excess_hours(one, other):
     return min([_hours_in(hours_of(one), some) for some, number in enumerate(numbers) if number == greatest])
 
 
-def _is_order(hours, thing):
-    """Whether thing has each of so many hours just once."""
-    if not isinstance(thing, (list, tuple)) or not all([is_number(part) for part in thing]):
-        return False
-    return sorted(thing) == list(range(hours))
-
-
 def never_dearer_in(one, other, order):
     """Whether one costs at most as much as other by all prices that do not fall along the order."""
     numbers = _excess_of_each(one, other)
-    if not _is_order(hours_of(one), order):
-        raise Unfit()
+    need_order(hours_of(one), order)
     # Such prices are sums of steps, each of which raises the hours from one place of the order on.
     some = 0
     for hour in reversed(list(order)):

@@ -250,3 +250,12 @@ def least_left(pieces, calendar):
         if calendar[hour]:
             least = min(least, least_left(rest, with_one(calendar, hour, -1)))
     return least
+
+
+@functools.cache
+def all_fit(pieces, calendar):
+    """Whether all these pieces can be done, by trying each hour for each one."""
+    if not pieces:
+        return True
+    (first, last), rest = pieces[0], pieces[1:]
+    return any(calendar[hour] and all_fit(rest, with_one(calendar, hour, -1)) for hour in range(first, last + 1))

@@ -45,6 +45,27 @@ FUNCTIONS = {
         "one_move": ["lot", "goal"], "path_between": ["lot", "goal"], "is_path": ["lot", "goal", "thing"],
         "just_lighter": ["lot"], "just_heavier": ["lot"], "is_just_lighter": ["one", "other"],
     },
+    "late": {
+        "lateness": ["lot", "calendar", "after"], "done_late": ["lot", "calendar", "after", "late"],
+        "late_stretches": ["lot", "calendar", "after"], "finish": ["lot", "calendar", "after"],
+        "least_after": ["lot", "calendar", "late"], "longer": ["lot", "late"], "never_later": ["one", "other"],
+        "later_calendar": ["one", "other"], "is_later_calendar": ["one", "other", "thing"],
+    },
+    "hands": {
+        "least_times": ["lot", "weights"], "even_hands": ["lot"], "tightest": ["lot"], "slack": ["lot", "calendar"],
+        "is_least": ["lot", "calendar"], "thinned": ["lot", "calendar"], "least_by": ["lot", "order"],
+        "hands_range": ["lot", "first", "last"], "hour_range": ["lot", "hour"], "all_least": ["lot"],
+        "how_many_least": ["lot"], "nth_least": ["lot", "number"], "number_least": ["lot", "calendar"],
+        "most_undone": ["one", "other"], "undone_calendar": ["one", "other"],
+        "is_undone_calendar": ["one", "other", "thing"],
+    },
+    "ranges": {
+        "is_ranges": ["hours", "thing"], "is_within": ["ranges", "thing"], "can_be_done": ["lot", "ranges"],
+        "surely_done": ["lot", "ranges"], "undone_within": ["lot", "ranges"],
+        "least_hands_within": ["lot", "ranges", "first", "last"], "calendar_within": ["lot", "ranges", "first", "last"],
+        "against_within": ["one", "other", "ranges"], "never_more_within": ["one", "other", "ranges"],
+        "is_against_within": ["one", "other", "ranges", "thing"],
+    },
 }
 
 
