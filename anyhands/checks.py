@@ -27,6 +27,12 @@ def need_fit(lot, numbers):
         raise Unfit()
 
 
+def need_rows(hours, rows):
+    """Raise Unfit if one of the rows has not as many numbers as there are hours."""
+    if not all([len(row) == hours for row in rows]):
+        raise Unfit()
+
+
 def need_alike(one, other):
     """Raise Unlike if the LOTs have not as many hours."""
     if one[0] != other[0]:

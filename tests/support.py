@@ -3,6 +3,7 @@
 import copy
 import functools
 import itertools
+import re
 
 from anyhands import errors
 
@@ -259,3 +260,36 @@ def all_fit(pieces, calendar):
         return True
     (first, last), rest = pieces[0], pieces[1:]
     return any(calendar[hour] and all_fit(rest, with_one(calendar, hour, -1)) for hour in range(first, last + 1))
+
+
+NUMBER = "(?:0|[1-9][0-9]*)"
+SIGNS = " 0149-:,.az+\n~"
+
+
+def plain_read_lot(text):
+    """The LOT with this text, taken apart by a pattern; None if there is none."""
+    errand = f"{NUMBER}-{NUMBER} {NUMBER}"
+    parts = re.fullmatch(f"({NUMBER}): (-|{errand}(?:, {errand})*)", text)
+    if not parts:
+        return None
+    hours, errands = int(parts[1]), []
+    for own in re.findall(f"({NUMBER})-({NUMBER}) ({NUMBER})", parts[2]):
+        first, last, work = map(int, own)
+        errands.append(((first, last), work))
+    windows = [window for window, _ in errands]
+    fits = hours >= 1 and windows == sorted(set(windows))
+    fits = fits and all(0 <= first <= last < hours and work >= 1 for (first, last), work in errands)
+    return (hours, tuple(errands)) if fits else None
+
+
+def edited(text):
+    """The text with a sign less, more or another one, at each place, and with two neighbours turned about."""
+    yield text
+    for at in range(len(text) + 1):
+        for sign in SIGNS:
+            yield text[:at] + sign + text[at:]
+    for at in range(len(text)):
+        yield text[:at] + text[at + 1:]
+        yield text[:at] + text[at + 1:at + 2] + text[at] + text[at + 2:]
+        for sign in SIGNS:
+            yield text[:at] + sign + text[at + 1:]

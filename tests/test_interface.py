@@ -6,6 +6,8 @@ import inspect
 import pathlib
 import unittest
 
+from anyhands.roster import Roster
+
 LIBRARY = ("collections", "heapq", "itertools", "math")
 PACKAGE = pathlib.Path(__file__).resolve().parent.parent / "anyhands"
 
@@ -66,6 +68,23 @@ FUNCTIONS = {
         "against_within": ["one", "other", "ranges"], "never_more_within": ["one", "other", "ranges"],
         "is_against_within": ["one", "other", "ranges", "thing"],
     },
+    "telling": {
+        "weights_of": ["prices"], "seen": ["prices"], "prices_of": ["hours", "weights"], "fewest_rows": ["hours"],
+        "telling_rows": ["hours", "most"], "bills_of": ["lot", "rows"], "lot_by_bills": ["hours", "most", "bills"],
+        "unseen": ["hours", "rows"], "blind_pair": ["hours", "rows"], "is_blind_pair": ["hours", "rows", "thing"],
+    },
+    "texts": {
+        "lot_text": ["lot"], "read_lot": ["text"], "numbers_text": ["numbers"], "read_numbers": ["text"],
+        "ranges_text": ["ranges"], "read_ranges": ["text"], "sheet_text": ["sheet"], "read_sheet": ["text"],
+    },
+    "desk": {"replies": ["text"]},
+}
+
+METHODS = {
+    "__init__": ["hours"], "add": ["first", "last", "work"], "remove": ["first", "last", "work"], "hire": ["hour", "hands"],
+    "fire": ["hour", "hands"], "pass_hour": [], "back": [], "twin": [], "hours": [], "now": [], "lot": [], "finished": [],
+    "missed": [], "calendar": [], "ahead": [], "is_safe": [], "will_miss": [], "first_short": [], "tight": [],
+    "room": ["first", "last"], "spare": ["hour"], "__len__": [], "__eq__": ["other"],
 }
 
 
@@ -84,6 +103,19 @@ class Interface(unittest.TestCase):
                     told = inspect.signature(function).parameters.values()
                     self.assertEqual([str(argument) for argument in told], arguments)
                     self.assertEqual({argument.kind for argument in told}, {inspect.Parameter.POSITIONAL_OR_KEYWORD})
+
+
+    def test_each_method_is_defined_in_the_class_itself(self):
+        rows = ast.parse((PACKAGE / "roster.py").read_text()).body
+        body = [row for row in rows if isinstance(row, ast.ClassDef) and row.name == "Roster"][0].body
+        defined = [row.name for row in body if isinstance(row, ast.FunctionDef)]
+        self.assertEqual((Roster.__module__, Roster.__bases__), ("anyhands.roster", (object,)))
+        for name, arguments in METHODS.items():
+            with self.subTest(name=name):
+                self.assertIn(name, defined)
+                told = list(inspect.signature(getattr(Roster, name)).parameters.values())
+                self.assertEqual([str(argument) for argument in told[1:]], arguments)
+                self.assertEqual({argument.kind for argument in told}, {inspect.Parameter.POSITIONAL_OR_KEYWORD})
 
 
 class Files(unittest.TestCase):
