@@ -11,7 +11,9 @@ from anyhands.lots import added
 from anyhands.order import compare
 from anyhands.roster import Roster
 from anyhands.texts import lot_text
-from tests.support import BIG, NUMBER, check_error, check_new, check_value, edited, kept_by, plain_read_lot, run_examples
+from tests.support import (
+    BIG, NUMBER, check_error, check_new, check_value, edited, kept_by, plain_read_lot, run_examples,
+)
 
 EXAMPLES = r"""
     >>> replies("hours: 4\nadd 0 2 3\nadd 1 1 2\nhire 0 1\nhire 1 2\nhire 2 1\nsafe\nmiss\nshort\nhire 2 1\ntight\nroom 0 3\nspare 1")
@@ -30,8 +32,8 @@ FROM_ONE = "[1-9][0-9]*"
 PATTERNS = (f"(add|remove) ({NUMBER}) ({NUMBER}) ({FROM_ONE})", f"(hire|fire) ({NUMBER}) ({FROM_ONE})",
             "(pass|back|lot|ahead|finished|missed|calendar|now|deeds|safe|miss|short|tight)",
             f"(room) ({NUMBER}) ({NUMBER})", f"(spare) ({NUMBER})")
-ALL = ("add 0 1 1", "remove 0 1 1", "hire 0 1", "fire 0 1", "pass", "back", "lot", "ahead", "finished", "missed", "calendar",
-       "now", "deeds", "safe", "miss", "short", "tight", "room 0 1", "spare 1", "compare 2: -")
+ALL = ("add 0 1 1", "remove 0 1 1", "hire 0 1", "fire 0 1", "pass", "back", "lot", "ahead", "finished", "missed",
+       "calendar", "now", "deeds", "safe", "miss", "short", "tight", "room 0 1", "spare 1", "compare 2: -")
 KEPT = ((Unlike, ()), (Unfit, ()), (NothingDone, ()), (NoHour, ("hour",)), (NoStretch, ("first", "last")),
         (TooFew, ("first", "last")))
 
@@ -119,40 +121,45 @@ class Requests(unittest.TestCase):
         self.check("hours: 3\nadd 0 1 12\nremove 0 1 12\nback\nback\nback", "3: 0-1 12", "3: -", "3: 0-1 12", "3: -",
                    "refused NothingDone")
         self.check("hours: 2\nadd 0 1 3\nadd 0 0 2\nhire 0 1\nhire 1 1\npass\nlot\nahead\nfinished\nmissed\nnow\ndeeds",
-                   "2: 0-1 3", "2: 0-0 2, 0-1 3", "2: 0-0 2, 0-1 3", "2: 0-0 2, 0-1 3", "2: 0-1 3", "2: 0-1 3", "2: 1-1 3",
-                   "2: 0-0 1", "2: 0-0 1", "1", "5")
-        self.check("hours: 2\nadd 0 1 2\nsafe\nmiss\nshort\ntight\nroom 0 0\nspare 1\nhire 0 1\nhire 1 2\nsafe\nmiss\nshort\n"
-                   "tight\nroom 0 1\nroom 0 0\nspare 0\nspare 1\nfire 1 1\ntight",
-                   "2: 0-1 2", "no", "2", "0-1", "-", "no", "no", "2: 0-1 2", "2: 0-1 2", "yes", "0", "-", "-", "1", "1", "1", "1",
-                   "2: 0-1 2", "0-1")
-        self.check("hours: 3\nadd 0 0 1\nadd 2 2 1\nhire 0 1\nhire 2 1\ntight", "3: 0-0 1", "3: 0-0 1, 2-2 1", "3: 0-0 1, 2-2 1",
-                   "3: 0-0 1, 2-2 1", "0-0 0-1 0-2 1-2 2-2")
-        self.check("hours: 2\nadd 0 1 2\ncompare 2: 0-1 2\ncompare 2: -\ncompare 2: 0-0 2\ncompare 2: 0-0 1\ncompare 3: 0-1 2",
+                   "2: 0-1 3", "2: 0-0 2, 0-1 3", "2: 0-0 2, 0-1 3", "2: 0-0 2, 0-1 3", "2: 0-1 3", "2: 0-1 3",
+                   "2: 1-1 3", "2: 0-0 1", "2: 0-0 1", "1", "5")
+        self.check("hours: 2\nadd 0 1 2\nsafe\nmiss\nshort\ntight\nroom 0 0\nspare 1\nhire 0 1\nhire 1 2\nsafe\nmiss\n"
+                   "short\ntight\nroom 0 1\nroom 0 0\nspare 0\nspare 1\nfire 1 1\ntight",
+                   "2: 0-1 2", "no", "2", "0-1", "-", "no", "no", "2: 0-1 2", "2: 0-1 2", "yes", "0", "-", "-", "1",
+                   "1", "1", "1", "2: 0-1 2", "0-1")
+        self.check("hours: 3\nadd 0 0 1\nadd 2 2 1\nhire 0 1\nhire 2 1\ntight", "3: 0-0 1", "3: 0-0 1, 2-2 1",
+                   "3: 0-0 1, 2-2 1", "3: 0-0 1, 2-2 1", "0-0 0-1 0-2 1-2 2-2")
+        self.check("hours: 2\nadd 0 1 2\ncompare 2: 0-1 2\ncompare 2: -\ncompare 2: 0-0 2\ncompare 2: 0-0 1\n"
+                   "compare 3: 0-1 2",
                    "2: 0-1 2", "alike", "heavier", "lighter", "neither", "refused Unlike")
         self.check("hours: 2\nadd 0 1 2\npass\ncompare 2: 0-1 2\ncompare 2: 1-1 2\ncompare 9: -",
                    "2: 0-1 2", "2: 0-1 2", "heavier", "alike", "refused Unlike")
 
     def test_each_error_as_a_reply(self):
-        self.check("hours: 2\nback\npass\npass\npass\nback\nnow", "refused NothingDone", "2: -", "2: -", "refused NoHour 2", "2: -", "1")
-        self.check("hours: 2\nadd 1 0 1\nadd 0 2 1\nadd 12 345 1\nremove 1 0 1\nroom 2 2\nroom 1 0\ndeeds", "refused NoStretch 1 0",
-                   "refused NoStretch 0 2", "refused NoStretch 12 345", "refused NoStretch 1 0", "refused NoStretch 2 2",
-                   "refused NoStretch 1 0", "0")
-        self.check("hours: 2\npass\nadd 0 0 1\nroom 0 0\nadd 1 0 1\nhire 0 1\nfire 0 1\nspare 0\nspare 2\nhire 9 1\nremove 0 0 1",
-                   "2: -", "refused Unfit", "refused Unfit", "refused NoStretch 1 0", "refused NoHour 0", "refused NoHour 0",
-                   "refused NoHour 0", "refused NoHour 2", "refused NoHour 9", "refused TooFew 0 0")
-        self.check("hours: 2\nadd 0 1 2\nremove 0 1 3\nremove 0 0 1\nhire 1 2\nfire 1 3\nfire 0 1\nlot\ncalendar\ndeeds",
-                   "2: 0-1 2", "refused TooFew 0 1", "refused TooFew 0 0", "2: 0-1 2", "refused TooFew 1 1", "refused TooFew 0 0",
-                   "2: 0-1 2", "0 2", "2")
+        self.check("hours: 2\nback\npass\npass\npass\nback\nnow", "refused NothingDone", "2: -", "2: -",
+                   "refused NoHour 2", "2: -", "1")
+        self.check("hours: 2\nadd 1 0 1\nadd 0 2 1\nadd 12 345 1\nremove 1 0 1\nroom 2 2\nroom 1 0\ndeeds",
+                   "refused NoStretch 1 0", "refused NoStretch 0 2", "refused NoStretch 12 345",
+                   "refused NoStretch 1 0", "refused NoStretch 2 2", "refused NoStretch 1 0", "0")
+        self.check("hours: 2\npass\nadd 0 0 1\nroom 0 0\nadd 1 0 1\nhire 0 1\nfire 0 1\nspare 0\nspare 2\nhire 9 1\n"
+                   "remove 0 0 1",
+                   "2: -", "refused Unfit", "refused Unfit", "refused NoStretch 1 0", "refused NoHour 0",
+                   "refused NoHour 0", "refused NoHour 0", "refused NoHour 2", "refused NoHour 9", "refused TooFew 0 0")
+        self.check("hours: 2\nadd 0 1 2\nremove 0 1 3\nremove 0 0 1\nhire 1 2\nfire 1 3\nfire 0 1\nlot\ncalendar\n"
+                   "deeds",
+                   "2: 0-1 2", "refused TooFew 0 1", "refused TooFew 0 0", "2: 0-1 2", "refused TooFew 1 1",
+                   "refused TooFew 0 0", "2: 0-1 2", "0 2", "2")
         self.check("hours: 1\ncompare 2: -\ncompare 1: -", "refused Unlike", "alike")
 
     def test_what_is_refused_changes_nothing(self):
-        self.check("hours: 2\nadd 0 1 1\nadd 0 1 1\nadd 5 5 5\nfire 0 1\nback\ndeeds\nlot", "2: 0-1 1", "2: 0-1 2", "refused NoStretch 5 5",
-                   "refused TooFew 0 0", "2: 0-1 1", "1", "2: 0-1 1")
+        self.check("hours: 2\nadd 0 1 1\nadd 0 1 1\nadd 5 5 5\nfire 0 1\nback\ndeeds\nlot", "2: 0-1 1", "2: 0-1 2",
+                   "refused NoStretch 5 5", "refused TooFew 0 0", "2: 0-1 1", "1", "2: 0-1 1")
 
     def test_great_numbers(self):
-        self.check(f"hours: 8\nadd 0 7 {BIG}\nadd 0 7 {BIG}\nmiss\nhire 3 {BIG}\nmiss\nadd {BIG} 0 1\nspare {BIG}\nhire 3 {BIG ** 2}\nspare 3",
-                   f"8: 0-7 {BIG}", f"8: 0-7 {2 * BIG}", f"{2 * BIG}", f"8: 0-7 {2 * BIG}", f"{BIG}", f"refused NoStretch {BIG} 0",
-                   f"refused NoHour {BIG}", f"8: 0-7 {2 * BIG}", f"{BIG ** 2 - BIG}")
+        self.check(f"hours: 8\nadd 0 7 {BIG}\nadd 0 7 {BIG}\nmiss\nhire 3 {BIG}\nmiss\nadd {BIG} 0 1\nspare {BIG}\n"
+                   f"hire 3 {BIG ** 2}\nspare 3",
+                   f"8: 0-7 {BIG}", f"8: 0-7 {2 * BIG}", f"{2 * BIG}", f"8: 0-7 {2 * BIG}", f"{BIG}",
+                   f"refused NoStretch {BIG} 0", f"refused NoHour {BIG}", f"8: 0-7 {2 * BIG}", f"{BIG ** 2 - BIG}")
 
     def test_long_rows_beside_a_roster(self):
         chance = random.Random(16)
@@ -187,22 +194,24 @@ class BadLines(unittest.TestCase):
         check_error(self, replies, {"text": text}, BadLine(number))
 
     def test_first_lines(self):
-        for line in ("", " ", "hours", "hours:", "hours: ", "hours: 0", "hours: 9", "hours: 10", "hours: 04", "hours: -1", "hours: +1",
-                     "hours:4", "hours:  4", " hours: 4", "hours: 4 ", "hours: 4 4", "Hours: 4", "hours : 4", "hours: x", "hours 4",
-                     "4", "lot", "hours: 4.0", "hours: hours: 4", f"hours: {BIG}"):
+        for line in ("", " ", "hours", "hours:", "hours: ", "hours: 0", "hours: 9", "hours: 10", "hours: 04",
+                     "hours: -1", "hours: +1", "hours:4", "hours:  4", " hours: 4", "hours: 4 ", "hours: 4 4",
+                     "Hours: 4", "hours : 4", "hours: x", "hours 4", "4", "lot", "hours: 4.0", "hours: hours: 4",
+                     f"hours: {BIG}"):
             self.check(line, 0)
             self.check(line + "\nlot", 0)
             self.check(line + "\nno request", 0)
 
     def test_lines_that_are_no_requests(self):
-        for line in ("", " ", "add", "add ", "add 0 1", "add 0 1 0", "add 0 1 -1", "add 0 1 1 1", "add 0 1 1 ", " add 0 1 1",
-                     "add  0 1 1", "add 0  1 1", "add 00 1 1", "add 0 01 1", "add 0 1 01", "add -1 1 1", "add +0 1 1", "add a 1 1",
-                     "add 0-1 1", "add 0, 1, 1", "Add 0 1 1", "ADD 0 1 1", "remove 0 1", "remove 0 1 0", "hire 0", "hire 0 0",
-                     "hire 0 1 1", "hire", "fire 0 0", "fire 0", "pass 0", "pass ", "pass_hour", "back 1", "lot 0", "ahead ", "deeds 1",
-                     "safe?", "miss 0", "short 0", "tight 0 1", "room", "room 0", "room 0 1 2", "room 0 -1", "spare", "spare 0 1",
-                     "spare x", "compare", "compare ", "compare  2: -", "compare 2:-", "compare 2: - ", "compare 0: -",
-                     "compare 2: 0-2 1", "compare 2: 1-1 1, 0-0 1", "compare 2: 0-0 0", "compare lot", "compare 2: -\t", "hours: 4",
-                     "twin", "undo", "1", "-", "LOT", "lot\t", "now now"):
+        for line in ("", " ", "add", "add ", "add 0 1", "add 0 1 0", "add 0 1 -1", "add 0 1 1 1", "add 0 1 1 ",
+                     " add 0 1 1", "add  0 1 1", "add 0  1 1", "add 00 1 1", "add 0 01 1", "add 0 1 01", "add -1 1 1",
+                     "add +0 1 1", "add a 1 1", "add 0-1 1", "add 0, 1, 1", "Add 0 1 1", "ADD 0 1 1", "remove 0 1",
+                     "remove 0 1 0", "hire 0", "hire 0 0", "hire 0 1 1", "hire", "fire 0 0", "fire 0", "pass 0",
+                     "pass ", "pass_hour", "back 1", "lot 0", "ahead ", "deeds 1", "safe?", "miss 0", "short 0",
+                     "tight 0 1", "room", "room 0", "room 0 1 2", "room 0 -1", "spare", "spare 0 1", "spare x",
+                     "compare", "compare ", "compare  2: -", "compare 2:-", "compare 2: - ", "compare 0: -",
+                     "compare 2: 0-2 1", "compare 2: 1-1 1, 0-0 1", "compare 2: 0-0 0", "compare lot",
+                     "compare 2: -\t", "hours: 4", "twin", "undo", "1", "-", "LOT", "lot\t", "now now"):
             self.check("hours: 2\n" + line, 1)
             self.check("hours: 2\nlot\n" + line + "\nlot", 2)
             self.check("hours: 2\nback\n" + line + "\n" + line, 2)
@@ -220,7 +229,8 @@ class BadLines(unittest.TestCase):
             self.check("\n".join(lines), number)
 
     def test_edits_at_each_place(self):
-        for base in ("hours: 2\nadd 0 1 1", "hours: 3\nhire 2 10\nroom 0 2", "hours: 1\npass\nback", "hours: 4\nspare 10\ncompare 4: 0-1 3, 1-2 1"):
+        for base in ("hours: 2\nadd 0 1 1", "hours: 3\nhire 2 10\nroom 0 2", "hours: 1\npass\nback",
+                     "hours: 4\nspare 10\ncompare 4: 0-1 3, 1-2 1"):
             for text in edited(base):
                 with self.subTest(text=text):
                     number = plain_bad_line(text)

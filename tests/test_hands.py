@@ -49,7 +49,8 @@ MIXED = (4, (((0, 0), 1), ((0, 2), 3), ((1, 1), 2), ((1, 3), 4), ((2, 3), 2)))
 FULL = (8, tuple(((first, last), BIG - 8 * first - last) for first in range(8) for last in range(first, 8)))
 OTHER_HOURS = ((1, ()), (2, (((0, 1), 1),)), (4, LOT[1]), (8, ()))
 WRONG_CALENDARS = ((), (2, 2), (2, 2, 2, 2), (0,) * 8, (9,))
-WRONG_ORDERS = ((), (0, 1), (0, 1, 1), (0, 1, 2, 3), (1, 2, 3), (-1, 0, 1), (0, 0, 0), (2, 1), (0, 1, BIG), (0, 1, 2, 2))
+WRONG_ORDERS = ((), (0, 1), (0, 1, 1), (0, 1, 2, 3), (1, 2, 3), (-1, 0, 1), (0, 0, 0), (2, 1), (0, 1, BIG),
+                (0, 1, 2, 2))
 WRONG_STRETCHES = ((2, 1), (1, 0), (-1, 0), (-1, 9), (0, 3), (3, 3), (-2, -1), (0, BIG), (-BIG, 0), (BIG, -BIG))
 
 
@@ -139,7 +140,8 @@ class EvenHands(unittest.TestCase):
         check_value(self, least_times, {"lot": LOT, "weights": (0, 0, 0)}, None)
         check_value(self, least_times, {"lot": LOT, "weights": (BIG, 0, BIG)}, 1)
         check_value(self, least_times, {"lot": (3, (((0, 2), 1),)), "weights": (0, 0, 1)}, 1)
-        check_value(self, least_times, {"lot": times_over(LOT, BIG * BIG), "weights": (1, 1, 1)}, (5 * BIG * BIG + 1) // 2)
+        check_value(self, least_times, {"lot": times_over(LOT, BIG * BIG), "weights": (1, 1, 1)},
+                    (5 * BIG * BIG + 1) // 2)
         work = all_work(FULL)
         self.assertEqual(even_hands(FULL), (work + 7) // 8)
         self.assertEqual(tightest(FULL), (0, 7))
@@ -218,7 +220,8 @@ class LeastBy(unittest.TestCase):
     def test_edges(self):
         check_value(self, least_by, {"lot": NONE, "order": (2, 0, 1)}, (0, 0, 0))
         check_value(self, least_by, {"lot": (1, (((0, 0), BIG),)), "order": (0,)}, (BIG,))
-        check_value(self, least_by, {"lot": (8, (((0, 7), BIG),)), "order": (7, 6, 5, 3, 2, 1, 0, 4)}, (0,) * 4 + (BIG, 0, 0, 0))
+        check_value(self, least_by, {"lot": (8, (((0, 7), BIG),)), "order": (7, 6, 5, 3, 2, 1, 0, 4)},
+                    (0,) * 4 + (BIG, 0, 0, 0))
         check_value(self, least_by, {"lot": LOT, "order": (2, 0, 1)}, (2, 5, 0))
 
     def test_unfit(self):

@@ -81,10 +81,10 @@ FUNCTIONS = {
 }
 
 METHODS = {
-    "__init__": ["hours"], "add": ["first", "last", "work"], "remove": ["first", "last", "work"], "hire": ["hour", "hands"],
-    "fire": ["hour", "hands"], "pass_hour": [], "back": [], "twin": [], "hours": [], "now": [], "lot": [], "finished": [],
-    "missed": [], "calendar": [], "ahead": [], "is_safe": [], "will_miss": [], "first_short": [], "tight": [],
-    "room": ["first", "last"], "spare": ["hour"], "__len__": [], "__eq__": ["other"],
+    "__init__": ["hours"], "add": ["first", "last", "work"], "remove": ["first", "last", "work"],
+    "hire": ["hour", "hands"], "fire": ["hour", "hands"], "pass_hour": [], "back": [], "twin": [], "hours": [],
+    "now": [], "lot": [], "finished": [], "missed": [], "calendar": [], "ahead": [], "is_safe": [], "will_miss": [],
+    "first_short": [], "tight": [], "room": ["first", "last"], "spare": ["hour"], "__len__": [], "__eq__": ["other"],
 }
 
 

@@ -138,8 +138,11 @@ class ByPlainSearch(unittest.TestCase):
             told = lateness(lot, calendar, after)
             # Far behind all hours the sum grows no more, or it is enough.
             beyond = lot[0] + all_work(lot) if told is None else told - 1
-            expected = [(first, last) for first, last in stretches(lot[0])
-                        if asked_by_hours(lot, hours_in((first, last))) > hands_to(calendar, after, first, last + beyond)]
+            expected = []
+            for first, last in stretches(lot[0]):
+                asked = asked_by_hours(lot, hours_in((first, last)))
+                if asked > hands_to(calendar, after, first, last + beyond):
+                    expected.append((first, last))
             self.assertEqual(late_stretches(lot, calendar, after), () if told == 0 else tuple(expected))
 
     def test_done_exactly_with_hands_for_each_stretch(self):
@@ -356,9 +359,9 @@ class Things(unittest.TestCase):
         check_thing(self, is_later_calendar, values, ((1, BIG ** 3), 0), True)
         check_thing(self, is_later_calendar, values, ((1, 9), BIG ** 3), True)
         check_thing(self, is_later_calendar, values, ((2, 9), 0), False)
-        for thing in (*JUNK, [(1, 9), 0], ([1, 9], 0), ((1, 9),), ((1, 9), 0, 0), ((1, 9, 9), 0), ((1,), 0), (0, (1, 9)),
-                      ((1, 9), None), ((1, 9), False), ((1, 9), "0"), ((True, 9), 0), ((1, 9), -1), ((1, -1), 0),
-                      ((-1, 9), 0), (1, 9), (1, 9, 0), ((1, 9), (0,)), ((9, 1), 0), ("19", 0)):
+        for thing in (*JUNK, [(1, 9), 0], ([1, 9], 0), ((1, 9),), ((1, 9), 0, 0), ((1, 9, 9), 0), ((1,), 0),
+                      (0, (1, 9)), ((1, 9), None), ((1, 9), False), ((1, 9), "0"), ((True, 9), 0), ((1, 9), -1),
+                      ((1, -1), 0), ((-1, 9), 0), (1, 9), (1, 9, 0), ((1, 9), (0,)), ((9, 1), 0), ("19", 0)):
             check_thing(self, is_later_calendar, values, thing, False)
         for depth in range(1, 11):
             self.assertIs(is_later_calendar(SLOW, QUICK, nested(((1, 9), 0), depth)), False)
@@ -379,7 +382,8 @@ class Errors(unittest.TestCase):
                 for function in WITH_AFTER:
                     check_error(self, function, {"lot": lot, "calendar": calendar, "after": 0}, Unfit())
                 for late_by in (0, BIG):
-                    check_error(self, done_late, {"lot": lot, "calendar": calendar, "after": 1, "late": late_by}, Unfit())
+                    check_error(self, done_late, {"lot": lot, "calendar": calendar, "after": 1, "late": late_by},
+                                Unfit())
                     check_error(self, least_after, {"lot": lot, "calendar": calendar, "late": late_by}, Unfit())
 
     def test_unlike(self):

@@ -71,8 +71,8 @@ def does(lot, calendar):
 
 def small_cases():
     """Pairs of a LOT and RANGES that are small in one way or another."""
-    for lots, hours, most, step in ((small_lots(1, 4), 1, 5, 1), (small_lots(2, 2), 2, 3, 1), (small_lots(3, 1), 3, 2, 5),
-                                    (lots_of_work(4, 2), 4, 1, 1)):
+    for lots, hours, most, step in ((small_lots(1, 4), 1, 5, 1), (small_lots(2, 2), 2, 3, 1),
+                                    (small_lots(3, 1), 3, 2, 5), (lots_of_work(4, 2), 4, 1, 1)):
         kept = small_ranges(hours, most)
         for at, lot in enumerate(lots):
             for ranges in kept[at % step::step]:
@@ -81,8 +81,8 @@ def small_cases():
 
 def small_pairs():
     """Two LOTs and RANGES that are small in one way or another."""
-    for lots, hours, most, step in ((small_lots(1, 3), 1, 4, 1), (small_lots(2, 1), 2, 3, 1), (small_lots(2, 2), 2, 2, 3),
-                                    (list(small_lots(3, 1))[::5], 3, 2, 7)):
+    for lots, hours, most, step in ((small_lots(1, 3), 1, 4, 1), (small_lots(2, 1), 2, 3, 1),
+                                    (small_lots(2, 2), 2, 2, 3), (list(small_lots(3, 1))[::5], 3, 2, 7)):
         kept = small_ranges(hours, most)
         for at, (one, other) in enumerate(itertools.product(list(lots), repeat=2)):
             for ranges in kept[at % step::step]:
@@ -117,9 +117,9 @@ class IsRanges(unittest.TestCase):
                     self.assertIs(is_ranges(len(ranges), thing), self.fits(thing, len(ranges)))
 
     def test_others(self):
-        for thing in (*JUNK, ((1, 0),), ((0, -1),), ((-1, 1),), ((0,),), ((0, 1, 2),), [(0, 1)], ([0, 1],), ((False, True),),
-                      ((0, True),), ((0, None),), (("0", "1"),), ("01",), (0, 1), ((0, 1), (1, 0)), ((0, 1), (0, -1)),
-                      (((0, 1),),), ((0, 1), 1), ((0, 1), None)):
+        for thing in (*JUNK, ((1, 0),), ((0, -1),), ((-1, 1),), ((0,),), ((0, 1, 2),), [(0, 1)], ([0, 1],),
+                      ((False, True),), ((0, True),), ((0, None),), (("0", "1"),), ("01",), (0, 1), ((0, 1), (1, 0)),
+                      ((0, 1), (0, -1)), (((0, 1),),), ((0, 1), 1), ((0, 1), None)):
             for hours in (1, 2):
                 check_thing(self, is_ranges, {"hours": hours}, thing, False)
         for depth in range(1, 11):
@@ -141,7 +141,8 @@ class IsWithin(unittest.TestCase):
                 self.assertIs(is_within(ranges, thing), thing in inside)
 
     def test_nearly_calendars(self):
-        for ranges, calendar in ((RANGES, (2, 3, 4, 1)), (((0, 0),), (0,)), (((1, 1), (0, 9)), (1, 1)), (NARROW, (1, 0, 1, 0))):
+        for ranges, calendar in ((RANGES, (2, 3, 4, 1)), (((0, 0),), (0,)), (((1, 1), (0, 9)), (1, 1)),
+                                 (NARROW, (1, 0, 1, 0))):
             check_thing(self, is_within, {"ranges": ranges}, calendar, True)
             for thing in nearly(calendar):
                 with self.subTest(ranges=ranges, thing=thing):
@@ -150,8 +151,9 @@ class IsWithin(unittest.TestCase):
                                   fits and all(low <= own <= high for (low, high), own in zip(ranges, thing)))
 
     def test_others(self):
-        for thing in (*JUNK, [2, 3, 4, 1], (2, 3, 4), (2, 3, 4, 1, 0), (3, 3, 4, 1), (2, 0, 4, 1), (2, 3, 5, 1), (2, 3, 4, -1),
-                      (2, 3, 4, True), (False, 1, 0, 0), (2, 3, 4, None), "2341", ("2", "3", "4", "1"), ((2, 3, 4, 1),)):
+        for thing in (*JUNK, [2, 3, 4, 1], (2, 3, 4), (2, 3, 4, 1, 0), (3, 3, 4, 1), (2, 0, 4, 1), (2, 3, 5, 1),
+                      (2, 3, 4, -1), (2, 3, 4, True), (False, 1, 0, 0), (2, 3, 4, None), "2341", ("2", "3", "4", "1"),
+                      ((2, 3, 4, 1),)):
             check_thing(self, is_within, {"ranges": RANGES}, thing, False)
         check_thing(self, is_within, {"ranges": ((0, BIG),)}, (BIG,), True)
         check_thing(self, is_within, {"ranges": ((0, BIG),)}, (BIG + 1,), False)
@@ -325,9 +327,11 @@ class IsAgainstWithin(unittest.TestCase):
     def test_others(self):
         values = {"one": LOT, "other": LOOSE, "ranges": WIDE}
         for thing in (*JUNK, [0, 2, 6, 0], (0, 2, 6), (0, 2, 6, 0, 0), (0, 2, 9, 9), (0, 2, 6, False), (0, 2, 6, None),
-                      (0, 0, 9, 0), (0, 3, 6, 0), (0, 2, 5, 0), "0260", (0, 2, BIG ** 3, 0), (-1, 3, 6, 0), ((0, 2, 6, 0),)):
+                      (0, 0, 9, 0), (0, 3, 6, 0), (0, 2, 5, 0), "0260", (0, 2, BIG ** 3, 0), (-1, 3, 6, 0),
+                      ((0, 2, 6, 0),)):
             check_thing(self, is_against_within, values, thing, False)
-        check_thing(self, is_against_within, {**values, "ranges": ((0, 2), (1, 3), (0, BIG), (0, 1))}, (0, 2, BIG, 0), True)
+        check_thing(self, is_against_within, {**values, "ranges": ((0, 2), (1, 3), (0, BIG), (0, 1))}, (0, 2, BIG, 0),
+                    True)
         for depth in range(1, 12):
             self.assertIs(is_against_within(LOT, LOOSE, WIDE, nested((0, 2, 6, 0), depth)), False)
 
@@ -341,7 +345,8 @@ class Errors(unittest.TestCase):
                     check_error(self, function, {"lot": lot, "ranges": ranges}, Unfit())
                 for first, last in ((0, 0), (0, 3), *WRONG_STRETCHES):
                     for function in WITH_STRETCH:
-                        check_error(self, function, {"lot": lot, "ranges": ranges, "first": first, "last": last}, Unfit())
+                        check_error(self, function, {"lot": lot, "ranges": ranges, "first": first, "last": last},
+                                    Unfit())
                 for function in WITH_BOTH:
                     check_error(self, function, {"one": lot, "other": LOOSE, "ranges": ranges}, Unfit())
                 for thing in (*JUNK, (0, 2, 6, 0), (0,) * len(ranges)):

@@ -35,7 +35,6 @@ EXAMPLES = """
 """
 
 DEEDS = ("add", "remove", "hire", "fire", "pass_hour", "back")
-QUESTIONS = ("hours", "now", "lot", "finished", "missed", "calendar", "ahead", "is_safe", "will_miss", "first_short", "tight")
 NO_STRETCH = ((1, 0), (-1, 0), (0, 4), (4, 4), (-2, -1), (3, 2), (BIG, BIG), (-BIG, 3), (0, BIG))
 
 
@@ -106,12 +105,13 @@ class Table:
 
     def told(self):
         """What the questions without arguments are to tell of the work and the hands."""
-        return [self.hours, self.now, *(lot_of_pieces(self.hours, own) for own in (self.open, self.finished, self.missed)),
-                tuple(self.hands), lot_of_pieces(self.hours, self.ahead()), len(self.past)]
+        work = [lot_of_pieces(self.hours, own) for own in (self.open, self.finished, self.missed)]
+        return [self.hours, self.now, *work, tuple(self.hands), lot_of_pieces(self.hours, self.ahead()), len(self.past)]
 
 
 def told(book):
-    return [book.hours(), book.now(), book.lot(), book.finished(), book.missed(), book.calendar(), book.ahead(), len(book)]
+    return [book.hours(), book.now(), book.lot(), book.finished(), book.missed(), book.calendar(), book.ahead(),
+            len(book)]
 
 
 def all_told(book):
@@ -153,7 +153,8 @@ def made_book(lot, calendar, now=0):
 def small_books():
     """Rosters that are small in one way or another, at each hour."""
     for hours, lots, most in ((1, small_lots(1, 3), 4), (2, small_lots(2, 1), 2), (2, lots_of_work(2, 3), 2),
-                              (3, lots_of_work(3, 2), 1), (3, list(lots_of_work(3, 3))[::7], 2), (4, list(lots_of_work(4, 3))[::9], 1)):
+                              (3, lots_of_work(3, 2), 1), (3, list(lots_of_work(3, 3))[::7], 2),
+                              (4, list(lots_of_work(4, 3))[::9], 1)):
         for lot, calendar in itertools.product(list(lots), grid(hours, most)):
             book = made_book(lot, calendar)
             yield book
@@ -305,7 +306,8 @@ class Coming(unittest.TestCase):
     def test_first_short_and_tight(self):
         for book in small_books():
             coming = [(first, last) for first, last in stretches(book.hours()) if first >= book.now()]
-            table = [(stretch, self.asked(book, *stretch), sum(book.calendar()[stretch[0]:stretch[1] + 1])) for stretch in coming]
+            table = [(stretch, self.asked(book, *stretch), sum(book.calendar()[stretch[0]:stretch[1] + 1]))
+                     for stretch in coming]
             short = [stretch for stretch, asked, hands in table if asked > hands]
             self.assertEqual(book.first_short(), min(short, default=None))
             self.assertIs(book.first_short() is None, book.is_safe())
@@ -461,7 +463,8 @@ class Edges(unittest.TestCase):
     def test_a_new_one(self):
         for hours in range(1, 9):
             book = Roster(hours)
-            self.assertEqual(told(book), [hours, 0, (hours, ()), (hours, ()), (hours, ()), (0,) * hours, (hours, ()), 0])
+            none = (hours, ())
+            self.assertEqual(told(book), [hours, 0, none, none, none, (0,) * hours, none, 0])
             self.assertEqual((book.is_safe(), book.will_miss(), book.first_short(), book.tight()), (True, 0, None, ()))
             self.assertEqual([book.room(*stretch) for stretch in stretches(hours)], [0] * len(stretches(hours)))
             self.assertEqual([book.spare(hour) for hour in range(hours)], [0] * hours)
@@ -550,7 +553,8 @@ class Edges(unittest.TestCase):
         book.hire(0, BIG)
         self.assertEqual((book.room(0, 7), book.room(1, 7), book.spare(0), book.spare(7)), (BIG, BIG, BIG, BIG))
         book.add(3, 3, BIG + 1)
-        self.assertEqual((book.will_miss(), book.first_short(), book.room(7, 7), book.spare(7)), (BIG + 1, (0, 3), None, None))
+        self.assertEqual((book.will_miss(), book.first_short(), book.room(7, 7), book.spare(7)),
+                         (BIG + 1, (0, 3), None, None))
         for _ in range(8):
             book.pass_hour()
         self.assertEqual(book.finished(), (8, (((0, 7), 30 * BIG),)))

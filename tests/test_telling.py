@@ -286,7 +286,8 @@ class Unseen(unittest.TestCase):
         for hours in range(1, 9):
             rows = [row for row in telling_rows(hours, 2)]
             for stretch in stretches(hours):
-                alone = tuple(prices_of(hours, tuple(own for own in weights_of(row) if own[0] != stretch)) for row in rows)
+                weights = [tuple(own for own in weights_of(row) if own[0] != stretch) for row in rows]
+                alone = tuple(prices_of(hours, own) for own in weights)
                 self.assertEqual(unseen(hours, alone), (stretch,))
                 self.check_pair(hours, alone, (stretch,), blind_pair(hours, alone))
 
@@ -307,12 +308,14 @@ class Unseen(unittest.TestCase):
         check_value(self, blind_pair, {"hours": 1, "rows": ((1,),)}, None)
 
     def test_things_nearly_blind_pairs(self):
-        for rows, pair in (((), (NEAR, NEST)), (((1, 1, 1),), (NEAR, NEST)), (((2, 5, 1),), ((3, (((2, 2), 1),)), (3, (((1, 2), 1),))))):
+        for rows, pair in (((), (NEAR, NEST)), (((1, 1, 1),), (NEAR, NEST)),
+                           (((2, 5, 1),), ((3, (((2, 2), 1),)), (3, (((1, 2), 1),))))):
             check_thing(self, is_blind_pair, {"hours": 3, "rows": rows}, pair, True)
             for thing in nearly(pair):
                 with self.subTest(rows=rows, thing=thing):
-                    fits = isinstance(thing, tuple) and len(thing) == 2 and all(is_lot(own) and own[0] == 3 for own in thing)
-                    expected = fits and thing[0] != thing[1] and plain_bills(thing[0], rows) == plain_bills(thing[1], rows)
+                    fits = isinstance(thing, tuple) and len(thing) == 2
+                    fits = fits and all(is_lot(own) and own[0] == 3 for own in thing) and thing[0] != thing[1]
+                    expected = fits and plain_bills(thing[0], rows) == plain_bills(thing[1], rows)
                     self.assertIs(is_blind_pair(3, rows, thing), expected)
 
     def test_others(self):
@@ -320,10 +323,11 @@ class Unseen(unittest.TestCase):
         great = times_over(NEAR, BIG ** 3)
         check_thing(self, is_blind_pair, values, (great, times_over(NEST, BIG ** 3)), True)
         check_thing(self, is_blind_pair, values, (great, added(times_over(NEST, BIG ** 3), NEAR)), False)
-        for thing in (*JUNK, [NEAR, NEST], (NEAR,), (NEAR, NEST, NEST), (NEAR, NEAR), (NEAR, NONE), (NEAR, (4, NEST[1])),
-                      ((2, ()), (2, ())), ((4, NEAR[1]), (4, NEST[1])), (list(NEAR), NEST), (NEAR, None), (NEAR, "3: -"),
-                      (3, NEAR[1]), (NEAR, Roster(3)), Roster(3), (Roster(3), Roster(3)), ((3, ()), (3, [])),
-                      (NEAR, (3, (((1, 1), 1), ((0, 2), 1)))), (NEAR, (3, (((0, 2), True), ((1, 1), 1))))):
+        for thing in (*JUNK, [NEAR, NEST], (NEAR,), (NEAR, NEST, NEST), (NEAR, NEAR), (NEAR, NONE),
+                      (NEAR, (4, NEST[1])), ((2, ()), (2, ())), ((4, NEAR[1]), (4, NEST[1])), (list(NEAR), NEST),
+                      (NEAR, None), (NEAR, "3: -"), (3, NEAR[1]), (NEAR, Roster(3)), Roster(3), (Roster(3), Roster(3)),
+                      ((3, ()), (3, [])), (NEAR, (3, (((1, 1), 1), ((0, 2), 1)))),
+                      (NEAR, (3, (((0, 2), True), ((1, 1), 1))))):
             check_thing(self, is_blind_pair, values, thing, False)
         check_thing(self, is_blind_pair, {"hours": 2, "rows": ()}, (NEAR, NEST), False)
         for depth in range(1, 8):

@@ -12,8 +12,8 @@ from anyhands.texts import (
     lot_text, numbers_text, ranges_text, read_lot, read_numbers, read_ranges, read_sheet, sheet_text,
 )
 from tests.support import (
-    BIG, NUMBER, check_error, check_same, check_value, edited, grid, lots_of_work, plain_read_lot, run_examples, small_lots,
-    some_lot, written_as,
+    BIG, NUMBER, check_error, check_same, check_value, edited, grid, lots_of_work, plain_read_lot, run_examples,
+    small_lots, some_lot, written_as,
 )
 
 EXAMPLES = r"""
@@ -97,7 +97,8 @@ class Lots(unittest.TestCase):
 
     def test_numbers_of_thousands_of_digits(self):
         # Python itself writes and reads no more than 4300 digits at once.
-        for number, text in ((10 ** 5000, "1" + "0" * 5000), (10 ** 6000 - 1, "9" * 6000), (10 ** 4800 + 7, "1" + "0" * 4799 + "7")):
+        for number, text in ((10 ** 5000, "1" + "0" * 5000), (10 ** 6000 - 1, "9" * 6000),
+                             (10 ** 4800 + 7, "1" + "0" * 4799 + "7")):
             self.assertTrue(numbers_text((0, number)) == "0 " + text)
             self.assertTrue(read_numbers(text + " 1") == (number, 1))
             self.assertTrue(lot_text((1, (((0, 0), number),))) == "1: 0-0 " + text)
@@ -116,13 +117,14 @@ class Lots(unittest.TestCase):
                         self.assertEqual(lot_text(expected), text)
 
     def test_bad_texts(self):
-        for text in ("", " ", "-", ":", ": ", "4", "4:", "4: ", "4:-", "4 : -", " 4: -", "4: - ", "4:  -", "0: -", "04: -",
-                     "+4: -", "-4: -", "4: 00-2 3", "4: 0-02 3", "4: 0-2 03", "4: 0-2 +3", "4: 0-2 -3", "4: 0-2 0", "4: 0-4 1",
-                     "4: 2-1 1", "4: 4-4 1", "4: -1-2 1", "4: 0-2  3", "4: 0 -2 3", "4: 0- 2 3", "4: 0-2 3,", "4: 0-2 3, ",
-                     "4: 0-2 3,1-1 1", "4: 0-2 3,  1-1 1", "4: 0-2 3 , 1-1 1", "4: 1-1 1, 0-2 3", "4: 0-2 3, 0-2 3",
-                     "4: 0-2 1, 0-2 2", "4: 0-2 1, 0-1 2", "4: 0-2 3\n", "\n4: -", "4: -\n", "4: -, 0-2 3", "4: 0-2 3, -",
-                     "4: 0-2", "4: 0 3", "4: 0-2-3 1", "4: 0-2 3 4", "4: 0-2 x", "4: a-b c", "x: -", "4; -", "4: 0_1-2 3",
-                     "4: 0-2 1_0", "4: 0-2 3.0", "4: 0-2 1e3", "4: (0, 2) 3", "4.0: -", "4:\t-", "4: 0-2\t3", "~", "4: ~"):
+        for text in ("", " ", "-", ":", ": ", "4", "4:", "4: ", "4:-", "4 : -", " 4: -", "4: - ", "4:  -", "0: -",
+                     "04: -", "+4: -", "-4: -", "4: 00-2 3", "4: 0-02 3", "4: 0-2 03", "4: 0-2 +3", "4: 0-2 -3",
+                     "4: 0-2 0", "4: 0-4 1", "4: 2-1 1", "4: 4-4 1", "4: -1-2 1", "4: 0-2  3", "4: 0 -2 3",
+                     "4: 0- 2 3", "4: 0-2 3,", "4: 0-2 3, ", "4: 0-2 3,1-1 1", "4: 0-2 3,  1-1 1", "4: 0-2 3 , 1-1 1",
+                     "4: 1-1 1, 0-2 3", "4: 0-2 3, 0-2 3", "4: 0-2 1, 0-2 2", "4: 0-2 1, 0-1 2", "4: 0-2 3\n",
+                     "\n4: -", "4: -\n", "4: -, 0-2 3", "4: 0-2 3, -", "4: 0-2", "4: 0 3", "4: 0-2-3 1", "4: 0-2 3 4",
+                     "4: 0-2 x", "4: a-b c", "x: -", "4; -", "4: 0_1-2 3", "4: 0-2 1_0", "4: 0-2 3.0", "4: 0-2 1e3",
+                     "4: (0, 2) 3", "4.0: -", "4:\t-", "4: 0-2\t3", "~", "4: ~"):
             check_error(self, read_lot, {"text": text}, BadText())
 
     def test_digits_of_other_kinds(self):
@@ -146,7 +148,8 @@ class Numbers(unittest.TestCase):
                 text = " ".join(map(str, numbers))
                 self.assertEqual(numbers_text(numbers), text)
                 self.assertEqual(read_numbers(text), numbers)
-        for numbers in ((BIG,), (0,) * 60, (BIG ** 4, 0, BIG), tuple(range(9, 111)), tuple(10 ** digits for digits in range(190))):
+        for numbers in ((BIG,), (0,) * 60, (BIG ** 4, 0, BIG), tuple(range(9, 111)),
+                        tuple(10 ** digits for digits in range(190))):
             self.assertEqual(numbers_text(numbers), " ".join(map(str, numbers)))
             self.assertEqual(read_numbers(numbers_text(numbers)), numbers)
         for digits in range(1, 190):
@@ -166,8 +169,8 @@ class Numbers(unittest.TestCase):
                         self.assertEqual(read_numbers(text), expected)
 
     def test_bad_texts(self):
-        for text in ("", " ", "00", "01", "3 01", "3 -1", "-0", "+1", "3  1", " 3", "3 ", "3,1", "3\n1", "3\n", "x", "3 x",
-                     "1.0", "1e1", "1_0", "0x1", "3\t1", "-", "None", "True", "~"):
+        for text in ("", " ", "00", "01", "3 01", "3 -1", "-0", "+1", "3  1", " 3", "3 ", "3,1", "3\n1", "3\n", "x",
+                     "3 x", "1.0", "1e1", "1_0", "0x1", "3\t1", "-", "None", "True", "~"):
             check_error(self, read_numbers, {"text": text}, BadText())
 
     def test_forms(self):
@@ -200,9 +203,9 @@ class Ranges(unittest.TestCase):
                         self.assertTrue(written_as([(0, 0)], read_ranges(text)))
 
     def test_bad_texts(self):
-        for text in ("", " ", "1", "1 2", "1..", "..1", "..", "1.2", "1...2", "1..2..3", "2..1", "1..2 3..2", "01..2", "1..02",
-                     "-1..2", "1..-2", "+1..2", "1 ..2", "1.. 2", "1..2 ", " 1..2", "1..2  3..4", "1..2,3..4", "1..2\n",
-                     "1..2\n3..4", "a..b", "1..2 3", "1-2", "10..9"):
+        for text in ("", " ", "1", "1 2", "1..", "..1", "..", "1.2", "1...2", "1..2..3", "2..1", "1..2 3..2", "01..2",
+                     "1..02", "-1..2", "1..-2", "+1..2", "1 ..2", "1.. 2", "1..2 ", " 1..2", "1..2  3..4", "1..2,3..4",
+                     "1..2\n", "1..2\n3..4", "a..b", "1..2 3", "1-2", "10..9"):
             check_error(self, read_ranges, {"text": text}, BadText())
 
     def test_forms(self):
@@ -249,19 +252,22 @@ class Sheets(unittest.TestCase):
                         self.assertEqual(sheet_text(expected), text)
 
     def test_bad_lines(self):
-        for text, number in (("", 0), ("\n", 0), (" ", 0), ("a", 0), ("a ", 0), ("1: -", 0), (" 1: -", 0), ("a  1: -", 0),
-                             ("a 1: - ", 0), (" a 1: -", 0), ("abcdefghi 1: -", 0), ("A 1: -", 0), ("a1 1: -", 0), ("a-b 1: -", 0),
-                             ("a 1: -\n", 1), ("a 1: -\n\nb 1: -", 1), ("\na 1: -", 0), ("a 2: -\na 2: -", 1),
-                             ("b 2: -\na 2: -", 1), ("a 2: -\nb 2: -\nab 2: -", 2), ("a 2: -\nb 2: -\nb 3: -", 2),
-                             ("a 0: -", 0), ("a 2: -\nb 0: -", 1), ("a 2: -\nb 02: -", 1), ("a 2: 1-1 1, 0-0 1", 0),
-                             ("a 2: 0-2 1", 0), ("a 2: 0-0 0", 0), ("b 0: -\na 2: -", 0), ("a 2: -\nb 2: x\na 2: -", 1),
-                             ("a 2: - b 2: -", 0), ("a\t2: -", 0), ("_ 2: -", 0), ("a_b 2: -", 0)):
+        for text, number in (("", 0), ("\n", 0), (" ", 0), ("a", 0), ("a ", 0), ("1: -", 0), (" 1: -", 0),
+                             ("a  1: -", 0), ("a 1: - ", 0), (" a 1: -", 0), ("abcdefghi 1: -", 0), ("A 1: -", 0),
+                             ("a1 1: -", 0), ("a-b 1: -", 0), ("a 1: -\n", 1), ("a 1: -\n\nb 1: -", 1),
+                             ("\na 1: -", 0), ("a 2: -\na 2: -", 1), ("b 2: -\na 2: -", 1),
+                             ("a 2: -\nb 2: -\nab 2: -", 2), ("a 2: -\nb 2: -\nb 3: -", 2), ("a 0: -", 0),
+                             ("a 2: -\nb 0: -", 1), ("a 2: -\nb 02: -", 1), ("a 2: 1-1 1, 0-0 1", 0),
+                             ("a 2: 0-2 1", 0), ("a 2: 0-0 0", 0), ("b 0: -\na 2: -", 0),
+                             ("a 2: -\nb 2: x\na 2: -", 1), ("a 2: - b 2: -", 0), ("a\t2: -", 0), ("_ 2: -", 0),
+                             ("a_b 2: -", 0)):
             check_error(self, read_sheet, {"text": text}, BadLine(number))
 
     def test_names(self):
         for name in ("a", "z", "abcdefgh", "zzzzzzzz", "oo"):
             check_value(self, read_sheet, {"text": f"{name} 1: -"}, ((name, (1, ())),))
-        check_value(self, read_sheet, {"text": "a 1: -\naa 1: -\nb 1: -"}, (("a", (1, ())), ("aa", (1, ())), ("b", (1, ()))))
+        check_value(self, read_sheet, {"text": "a 1: -\naa 1: -\nb 1: -"},
+                    (("a", (1, ())), ("aa", (1, ())), ("b", (1, ()))))
 
     def test_forms(self):
         text = check_same(self, sheet_text, {"sheet": SHEET})

@@ -50,15 +50,17 @@ OBJECTS = (Roster(1), Roster(3), some_book(), errors.Unlike(), errors.NoMove(("o
 
 # Each function with a parameter called thing: its other arguments, and a thing of which it tells True.
 THINGS = (
-    (is_lot, (), NEAR), (is_lot, (), NONE), (is_stretch, (3,), (0, 2)), (is_table, (2,), (1, 3, 1)), (is_calendar, (2,), (0, 5)),
-    (is_lacking, (NEAR, (0, 1, 0)), lacking(NEAR, (0, 1, 0))), (is_lacking, (NEAR, (1, 1, 1)), ()),
-    (is_doing, (NEAR, (1, 1, 1)), doing(NEAR, (1, 1, 1))), (is_doing, (NEAR, (1, 1, 1)), ((), (), ())),
-    (is_heavy_calendar, (NEST, NEAR), (1, 0, 1)), (is_heavy_prices, (NEST, NEAR), (0, 1, 0)), (is_prices, (3,), (2, 5, 1)),
-    (is_cheapest, (NEAR, (2, 5, 1)), (1, 0, 1)), (is_move, (3,), ("cross", (0, 2), (1, 1))), (is_move, (3,), ("out", (0, 2))),
-    (is_path, (NEST, NONE), path_between(NEST, NONE)), (is_path, (NEST, NEST), ()),
-    (is_later_calendar, (NEST, NEAR), later_calendar(NEST, NEAR)), (is_undone_calendar, (NEST, NEAR), undone_calendar(NEST, NEAR)),
-    (is_ranges, (2,), ((0, 2), (5, 5))), (is_within, (((0, 2), (5, 5)),), (1, 5)),
-    (is_against_within, (NEST, NEAR, ((0, 1),) * 3), (1, 0, 1)), (is_blind_pair, (3, ((1, 1, 1),)), (NEAR, NEST)),
+    (is_lot, (), NEAR), (is_lot, (), NONE), (is_stretch, (3,), (0, 2)), (is_table, (2,), (1, 3, 1)),
+    (is_calendar, (2,), (0, 5)), (is_lacking, (NEAR, (0, 1, 0)), lacking(NEAR, (0, 1, 0))),
+    (is_lacking, (NEAR, (1, 1, 1)), ()), (is_doing, (NEAR, (1, 1, 1)), doing(NEAR, (1, 1, 1))),
+    (is_doing, (NEAR, (1, 1, 1)), ((), (), ())), (is_heavy_calendar, (NEST, NEAR), (1, 0, 1)),
+    (is_heavy_prices, (NEST, NEAR), (0, 1, 0)), (is_prices, (3,), (2, 5, 1)),
+    (is_cheapest, (NEAR, (2, 5, 1)), (1, 0, 1)), (is_move, (3,), ("cross", (0, 2), (1, 1))),
+    (is_move, (3,), ("out", (0, 2))), (is_path, (NEST, NONE), path_between(NEST, NONE)), (is_path, (NEST, NEST), ()),
+    (is_later_calendar, (NEST, NEAR), later_calendar(NEST, NEAR)),
+    (is_undone_calendar, (NEST, NEAR), undone_calendar(NEST, NEAR)), (is_ranges, (2,), ((0, 2), (5, 5))),
+    (is_within, (((0, 2), (5, 5)),), (1, 5)), (is_against_within, (NEST, NEAR, ((0, 1),) * 3), (1, 0, 1)),
+    (is_blind_pair, (3, ((1, 1, 1),)), (NEAR, NEST)),
 )
 
 
@@ -95,7 +97,8 @@ class Things(unittest.TestCase):
     def test_objects_of_the_package(self):
         for function, given, thing in THINGS:
             for own in OBJECTS:
-                for other in (own, [own], (own,), (own, own), (own, own, own), (1, own), (own, 1), ((own, 1),), nested(own, 12)):
+                for other in (own, [own], (own,), (own, own), (own, own, own), (1, own), (own, 1), ((own, 1),),
+                              nested(own, 12)):
                     with self.subTest(function=function.__name__, other=other):
                         self.assertIs(self.tells(function, given, other), False)
 
@@ -147,8 +150,9 @@ class Things(unittest.TestCase):
             self.assertTrue(book == twin and len(book) == len(twin))
 
     def test_errors_raised_whatever_thing_is(self):
-        for function, given in ((is_heavy_calendar, (NEAR, (2, ()))), (is_heavy_prices, (NEAR, (2, ()))), (is_path, (NEAR, (2, ()))),
-                                (is_later_calendar, (NEAR, (2, ()))), (is_undone_calendar, (NEAR, (2, ()))),
+        for function, given in ((is_heavy_calendar, (NEAR, (2, ()))), (is_heavy_prices, (NEAR, (2, ()))),
+                                (is_path, (NEAR, (2, ()))), (is_later_calendar, (NEAR, (2, ()))),
+                                (is_undone_calendar, (NEAR, (2, ()))),
                                 (is_against_within, (NEAR, (2, ()), ((0, 1),) * 3))):
             for thing in (*OBJECTS, (OBJECTS[0],), None):
                 with self.assertRaises(Unlike):
@@ -230,7 +234,8 @@ class Overview(unittest.TestCase):
                 self.assertTrue(is_later_calendar(one, other, pair) and most_undone(one, other) > 0)
 
     def test_what_is_asked_tells_the_lot(self):
-        for hours, lots in ((1, small_lots(1, 4)), (2, small_lots(2, 2)), (3, small_lots(3, 1)), (4, lots_of_work(4, 2))):
+        for hours, lots in ((1, small_lots(1, 4)), (2, small_lots(2, 2)), (3, small_lots(3, 1)),
+                            (4, lots_of_work(4, 2))):
             kept = list(lots)
             self.assertEqual(len({table_of(lot) for lot in kept}), len(kept))
             for lot in kept:
@@ -324,7 +329,8 @@ class Together(unittest.TestCase):
                 self.assertEqual(book.will_miss(), undone(lot, calendar))
                 self.assertIs(book.is_safe(), is_done(lot, calendar))
                 self.assertEqual(book.lot(), lot)
-                self.assertEqual([book.spare(hour) for hour in range(3)].count(None), 0 if is_done(lot, calendar) else 3)
+                self.assertEqual([book.spare(hour) for hour in range(3)].count(None),
+                                 0 if is_done(lot, calendar) else 3)
                 for _ in range(3):
                     book.pass_hour()
                 self.assertEqual(all_work(book.missed()), undone(lot, calendar))
